@@ -111,13 +111,17 @@ def places_of(polys):
 
 def cells_of(polys):
     """Return the list of the cells from 0 to 1: a stretch, a place, a stretch, and so on."""
+    return cells_between((0, 1), places_of(polys), (1, 1))
+
+
+def cells_between(one, places, other):
+    """Return the list of the cells from one end to another one, some ascending places lying between them."""
     out = []
-    last = (0, 1)
-    for place in places_of(polys):
-        out.append(("between", last, place))
+    for place in places:
+        out.append(("between", one, place))
         out.append(("at", place))
-        last = place
-    out.append(("between", last, (1, 1)))
+        one = place
+    out.append(("between", one, other))
     return out
 
 

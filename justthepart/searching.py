@@ -1,0 +1,168 @@
+"""Judging: going through all runs of all faults, or up to one that goes wrong."""
+
+from justthepart.parts import faults_of
+from justthepart.places import FIRST_BITS, ascending, cells_between, sample
+from justthepart.seeing import Seen
+from justthepart.world import World, failings
+
+WHOLE = ("between", (0, 1), (1, 1))
+
+# Lots of more standings than this may grow without end: two runs ahead of them often tell enough.
+MANY = 50
+
+
+def judge(net):
+    """Return ("selective", paper), or ("astray", fault, place, failing, run)."""
+    searches = [Search(net, fault) for fault in faults_of(net)]
+    # Most nets that go astray do so at any place: all parts are looked at once ahead of all their cells.
+    for search in searches:
+        search.look(search.place_in(search.whole))
+        if search.astray is not None:
+            return search.astray
+    rows = []
+    for search in searches:
+        rows.extend(search.rows())
+        if search.astray is not None:
+            return search.astray
+    return ("selective", tuple(rows))
+
+
+class Search:
+    """The search through all runs of one fault."""
+
+    def __init__(self, net, fault):
+        self.net = net
+        self.fault = fault
+        self.whole = WHOLE if fault[0] == "line" else None
+        self.seen = Seen(net, fault, None)
+        self.failings = failings(net)
+        self.kept = [[] for _ in self.failings]
+        self.astray = None
+
+    def place_in(self, cell):
+        """Return a place in a cell, None in a bus."""
+        return None if cell is None else sample(cell)
+
+    def look(self, place):
+        """Return (sights, lots) for each failing at a place, [] if a run goes astray there."""
+        seen = self.seen.elsewhere(place)
+        found = []
+        for at, failing in enumerate(self.failings):
+            same = alike(self.kept[at], seen)
+            if same is None:
+                lots, wrong = explored(World(self.net, seen, failing))
+                if wrong is not None:
+                    self.astray = ("astray", self.fault, place, failing, wrong)
+                    return []
+                same = (sights_of(lots, seen), tuple_of_lots(lots))
+                self.kept[at].append(same)
+            found.append(same)
+        return found
+
+    def rows(self):
+        """Return the rows of a paper on all cells; up to where a run goes astray, if one does."""
+        rows = []
+        work = [(self.whole, {})]
+        while work and self.astray is None:
+            cell, split = work.pop()
+            found = self.look(self.place_in(cell))
+            topologies = {opened: True for sights, _ in found for opened in sights if opened not in split}
+            places = self.places_within(cell, topologies)
+            if places:
+                split = {**split, **topologies}
+                _, one, other = cell
+                parts = cells_between(one, places, other)
+                work.extend([(part, split) for part in reversed(parts)])
+            else:
+                rows.extend([(self.fault, cell, failing, lots) for failing, (_, lots) in zip(self.failings, found)])
+        return rows
+
+    def places_within(self, cell, topologies):
+        """Return the ascending list of the places within a cell where what guards see at topologies may change."""
+        views = self.seen.shared()
+        found = {place: True for opened in topologies for place in views.view(opened).places_within(cell)}
+        return ascending(list(found), FIRST_BITS)
+
+
+def alike(kept, seen):
+    """Return the last kept (sights, lots) whose guards see the same, None without one."""
+    for same in reversed(kept):
+        if all([seen.at(opened) == sight for opened, sight in same[0].items()]):
+            return same
+    return None
+
+
+def sights_of(lots, seen):
+    """Return a dict of the topologies of all standings in lots, into what guards see at them."""
+    topologies = {standing[0]: True for lot in lots for standing in lot}
+    return {opened: seen.at(opened) for opened in topologies}
+
+
+def tuple_of_lots(lots):
+    """Return lots as tuples, equal neighbours as one and the same."""
+    out = [tuple(lots[0])]
+    for lot in lots[1:]:
+        now = tuple(lot)
+        out.append(out[-1] if now == out[-1] else now)
+    return tuple(out)
+
+
+def explored(world):
+    """Return (lots, None), or (None, run) for a run that goes wrong.
+
+    A lot is a dict of the standings that runs come to behind a tick, each into one ahead of it.
+    """
+    lots = [{world.start: None}]
+    while len(lots) <= world.ticks:
+        last = lots[-1]
+        lot = next_lot(world, last)
+        if len(last) <= MANY < len(lot):
+            wrong = plain_wrong_run(world)
+            if wrong is not None:
+                return None, wrong
+        lots.append(lot)
+        for standing in lot:
+            if not world.is_allowed(standing[0]):
+                return None, prolonged(world, run_to(lots, standing), False)
+        if len(lot) == len(last) and all(standing in last for standing in lot):
+            # Nothing new comes from here on.
+            lots.extend([lot] * (world.ticks + 1 - len(lots)))
+    for standing in lots[-1]:
+        if not world.is_right(standing):
+            return None, run_to(lots, standing)
+    return lots, None
+
+
+def next_lot(world, lot):
+    """Return the lot behind a lot."""
+    out = {}
+    for standing in lot:
+        for follower in world.followers(standing):
+            out.setdefault(follower, standing)
+    return out
+
+
+def run_to(lots, standing):
+    """Return the run through lots that ends with a standing of the last one."""
+    run = []
+    for lot in reversed(lots):
+        run.append(standing)
+        standing = lot[standing]
+    return tuple(run[::-1])
+
+
+def prolonged(world, run, is_eager):
+    """Return a run, gone on with until all ticks are over."""
+    run = list(run)
+    while len(run) <= world.ticks:
+        run.append(world.follower(run[-1], is_eager))
+    return tuple(run)
+
+
+def plain_wrong_run(world):
+    """Return one of the two plainest runs, if it goes wrong, or else None."""
+    for is_eager in (False, True):
+        run = prolonged(world, [world.start], is_eager)
+        if not world.is_right(run[-1]):
+            return run
+    return None
