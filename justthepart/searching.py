@@ -3,28 +3,31 @@
 from justthepart.parts import faults_of
 from justthepart.places import FIRST_BITS, ascending, cells_between, sample
 from justthepart.seeing import Seen
+from justthepart.views import PERHAPS
 from justthepart.world import World, failings
 
 WHOLE = ("between", (0, 1), (1, 1))
 
-# Lots of more standings than this may grow without end: two runs ahead of them often tell enough.
+# All runs may be too many to go through if more guards than this see perhaps at once, or if there are lots of more
+# standings than this: then a run or two of each failing are looked at ahead of them.
+FEW = 4
 MANY = 50
+
+GLANCE = 0
+LOOK = 1
+FILL = 2
 
 
 def judge(net):
     """Return ("selective", paper), or ("astray", fault, place, failing, run)."""
     searches = [Search(net, fault) for fault in faults_of(net)]
-    # Most nets that go astray do so at any place: all parts are looked at once ahead of all their cells.
-    for search in searches:
-        search.look(search.place_in(search.whole))
-        if search.astray is not None:
-            return search.astray
-    rows = []
-    for search in searches:
-        rows.extend(search.rows())
-        if search.astray is not None:
-            return search.astray
-    return ("selective", tuple(rows))
+    # Most nets that go astray do so at any place, and by plain runs: what takes longest comes last.
+    for step in (GLANCE, LOOK, FILL):
+        for search in sorted(searches, key=lambda one: one.width):
+            search.take(step)
+            if search.astray is not None:
+                return search.astray
+    return ("selective", tuple([row for part in searches for row in part.rows]))
 
 
 class Search:
@@ -34,48 +37,74 @@ class Search:
         self.net = net
         self.fault = fault
         self.whole = WHOLE if fault[0] == "line" else None
-        self.seen = Seen(net, fault, None)
+        self.seen = Seen(net, fault, self.place_in(self.whole))
+        self.width = self.width_at(self.seen)
         self.failings = failings(net)
         self.kept = [[] for _ in self.failings]
+        self.rows = []
         self.astray = None
+
+    def take(self, step):
+        """Take one of the steps of judging."""
+        if step == GLANCE:
+            self.glance(self.seen)
+        elif step == LOOK:
+            self.look(self.seen)
+        else:
+            self.fill()
 
     def place_in(self, cell):
         """Return a place in a cell, None in a bus."""
         return None if cell is None else sample(cell)
 
-    def look(self, place):
+    def width_at(self, seen):
+        """Return how many guards see perhaps while nothing is open."""
+        return seen.at(()).count(PERHAPS)
+
+    def glance(self, seen):
+        """Look at plain runs alone, if all of them may be too many."""
+        if self.width_at(seen) <= FEW:
+            return
+        for failing in self.failings:
+            wrong = plain_wrong_run(World(self.net, seen, failing))
+            if wrong is not None:
+                self.astray = ("astray", self.fault, seen.place, failing, wrong)
+                return
+
+    def look(self, seen):
         """Return (sights, lots) for each failing at a place, [] if a run goes astray there."""
-        seen = self.seen.elsewhere(place)
         found = []
         for at, failing in enumerate(self.failings):
             same = alike(self.kept[at], seen)
             if same is None:
                 lots, wrong = explored(World(self.net, seen, failing))
                 if wrong is not None:
-                    self.astray = ("astray", self.fault, place, failing, wrong)
+                    self.astray = ("astray", self.fault, seen.place, failing, wrong)
                     return []
                 same = (sights_of(lots, seen), tuple_of_lots(lots))
                 self.kept[at].append(same)
             found.append(same)
         return found
 
-    def rows(self):
-        """Return the rows of a paper on all cells; up to where a run goes astray, if one does."""
-        rows = []
+    def fill(self):
+        """Fill in the rows of a paper on all cells; up to where a run goes astray, if one does."""
         work = [(self.whole, {})]
-        while work and self.astray is None:
+        while work:
             cell, split = work.pop()
-            found = self.look(self.place_in(cell))
-            topologies = {opened: True for sights, _ in found for opened in sights if opened not in split}
+            seen = self.seen.elsewhere(self.place_in(cell))
+            self.glance(seen)
+            found = self.look(seen) if self.astray is None else []
+            if self.astray is not None:
+                return
+            topologies = {opened: True for same in found for opened in same[0] if opened not in split}
             places = self.places_within(cell, topologies)
             if places:
-                split = {**split, **topologies}
                 _, one, other = cell
-                parts = cells_between(one, places, other)
-                work.extend([(part, split) for part in reversed(parts)])
+                split = {**split, **topologies}
+                work.extend([(part, split) for part in reversed(cells_between(one, places, other))])
             else:
-                rows.extend([(self.fault, cell, failing, lots) for failing, (_, lots) in zip(self.failings, found)])
-        return rows
+                for failing, same in zip(self.failings, found):
+                    self.rows.append((self.fault, cell, failing, same[1]))
 
     def places_within(self, cell, topologies):
         """Return the ascending list of the places within a cell where what guards see at topologies may change."""

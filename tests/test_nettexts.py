@@ -102,7 +102,7 @@ class Reading(Case):
             self.assert_wrong(HEAD + f"error 1/{number}", 5, 9)
 
     def test_fractions(self):
-        for text, wanted in (("1", (1, 1)), ("1000", (1000, 1)), ("2/4", (1, 2)), ("6/3", (2, 1)), ("1/1000", (1, 1000)),
+        for text, wanted in (("1", (1, 1)), ("1000", (1000, 1)), ("3/1", (3, 1)), ("2/4", (1, 2)), ("6/3", (2, 1)), ("1/1000", (1, 1000)),
                              ("1000/1000", (1, 1)), ("999/1000", (999, 1000))):
             self.assertEqual(self.assert_row(f"guard q difference ab {text} delay 0 opens g")[3][0][1][2], wanted)
         self.assertEqual(read_net(HEAD + "error 0/7\nbreaker 1 1\nticks 1")[4][0], (0, 1))

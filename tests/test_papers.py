@@ -280,6 +280,25 @@ class Lots(Case):
                 if not here.is_right(standing, self.paper[row][2]):
                     self.assert_not_shown(EXAMPLE, with_lot(self.paper, row, 10, (*last, standing)), "right end")
 
+    def test_the_lots_of_the_cell_beside(self):
+        # What was shown of a cell is not shown of the next one, where q sees something else.
+        guards = [*EXAMPLE[3], ("q", ("over", AB0, (1, 10), True), 20, (G,))]
+        net = with_guards(EXAMPLE, guards)
+        paper = judge(net)[1]
+        many = len(apart.failings_of(net))
+        unlike = 0
+        for at, row in enumerate(paper[many:]):
+            if row[0] == paper[at][0] and row[2] != ("guard", "q"):
+                lots = paper[at][3]
+                other = changed(paper, (many + at, 3), lots)
+                here = apart.Fault(net, row[0], sample(row[1]) if row[1] else None)
+                if all(here.followers(one, row[2]) <= set(then) for lot, then in zip(lots, lots[1:]) for one in lot):
+                    self.assert_shown(net, other)
+                else:
+                    unlike += 1
+                    self.assert_not_shown(net, other, "follower")
+        self.assertGreaterEqual(unlike, 10)
+
     def test_an_empty_lot(self):
         for row in (0, 20):
             for at in range(11):

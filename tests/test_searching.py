@@ -234,6 +234,46 @@ class Examples(Case):
                     self.assert_no(other, verdict)
 
 
+class Many(Case):
+    """Nets in which many guards see perhaps: lots grow until something is opened."""
+
+    def net_of(self, many, delay, rest, ticks):
+        """Return a village with so many guards that see perhaps, and others."""
+        # Into a fault of a flow 7/10, all in all; with an error of 1/10 that is perhaps as much as 7/10.
+        told = [(f"q{at}", ("difference", "a", (7, 10)), delay, (("g", 0), ("h", 0))) for at in range(many)]
+        return with_rules(with_guards(VILLAGE, told + rest), error=(1, 10), least=1, most=2, ticks=ticks)
+
+    def test_selective_ones(self):
+        # The other two order the sources on the third tick, so they are open behind the fifth one.
+        sure = [(name, ("difference", "a", (1, 9)), 2, (("g", 0), ("h", 0))) for name in ("e1", "e2")]
+        for delay in (1, 5):
+            net = self.net_of(4, delay, sure, 5)
+            verdict = judge(net)
+            self.assert_yes(net, verdict, random.Random(11))
+            self.assertGreater(max(len(lot) for row in verdict[1] for lot in row[3]), 100)
+            less = with_rules(net, ticks=4)
+            self.assert_no(less, judge(less))
+
+    def test_astray_ones(self):
+        # Only e1 sees surely; if it fails, the others may hesitate for ever.
+        one = [("e1", ("difference", "a", (1, 9)), 0, (("g", 0), ("h", 0)))]
+        for rest in ([], one):
+            for many in (5, 12):
+                net = self.net_of(many, 20, rest, 40)
+                verdict = judge(net)
+                self.assert_no(net, verdict)
+                self.assertEqual(verdict[3], ("guard", "e1") if rest else None)
+
+    def test_astray_if_all_are_eager(self):
+        # What sees perhaps may open g, which feeds nothing but b's fault: there it must stay shut.
+        sure = [(name, ("difference", "b", (1, 1000)), 3, (("ab", 0), ("ab", 1))) for name in ("e1", "e2")]
+        told = [(f"q{at}", ("over", ("g", 0), (1, 13), False), 2, (("g", 0),)) for at in range(5)]
+        net = with_rules(with_guards(EXAMPLE, [*EXAMPLE[3][:5], *sure, *told]), ticks=14)
+        verdict = judge(net)
+        self.assert_no(net, verdict)
+        self.assertEqual(verdict[1], ("bus", "b"))
+
+
 class Drawn(Case):
     def test_wild_nets(self):
         draw = random.Random(41)
