@@ -100,7 +100,7 @@ class Search:
             places = self.places_within(cell, topologies)
             if places:
                 _, one, other = cell
-                split = {**split, **topologies}
+                split = {opened: True for opened in list(split) + list(topologies)}
                 work.extend([(part, split) for part in reversed(cells_between(one, places, other))])
             else:
                 for failing, same in zip(self.failings, found):
