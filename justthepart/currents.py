@@ -1,6 +1,10 @@
-"""The currents of a net with a fault, as polynomials in the place x of the fault on its line.
+"""The currents of a net with a fault, as polynomials in what is not told of it.
 
+That is the place x of the fault on its line, or, if the fault has a resistance, how much of it there is, y.
 Within the package the polynomials of flows are triples of integers; `flows` tells them as fractions.
+
+A SITE is (unit, parts, shared): how the X of a faulty line is shared out among its two parts, and what resistance
+the fault has, these being polynomials over the unit.
 """
 
 from math import gcd
@@ -12,10 +16,18 @@ from justthepart.polys import fraction
 ZERO = (0, 0, 0)
 ONE = (1, 0, 0)
 
+# A fault without a resistance, at x on its line.
+BARE = (1, ((0, 1, 0), (1, -1, 0)), (0, 0, 0))
+
 
 def flows(net, opened, fault):
     """Return (den, volts, into): the voltages of buses and the currents into breakers, over den, at a topology."""
-    den, volts, into = whole_flows(net, opened, fault)
+    return told_in_fractions(whole_flows(net, opened, fault, BARE))
+
+
+def told_in_fractions(whole):
+    """Return flows whose polynomials are of integers as ones of fractions."""
+    den, volts, into = whole
     volts = {bus: of_fractions(volts[bus]) for bus in volts}
     return of_fractions(den), volts, {breaker: of_fractions(into[breaker]) for breaker in into}
 
@@ -60,42 +72,52 @@ def product_of(one, other):
     return (a0 * b0, a0 * b1 + a1 * b0, a1 * b1)
 
 
-def drains_of(net, opened, fault, fed):
+def drains_of(net, opened, fault, fed, parts):
     """Return (breaker, bus, resistance) of all that goes from fed buses to the fault, breaker None in a faulty bus."""
     kind, name = fault
     if kind == "bus":
         return [(None, name, ZERO)] if name in fed else []
     _, one, other, resistance = part_named(net[1], name)
-    ends = [((name, 0), one, (0, resistance, 0)), ((name, 1), other, (resistance, -resistance, 0))]
+    ends = [((name, 0), one, times(parts[0], resistance)), ((name, 1), other, times(parts[1], resistance))]
     return [end for end in ends if end[0] not in opened and end[1] in fed]
 
 
-def drawn_by(grid, drains):
+def drawn_by(grid, drains, unit, shared):
     """Return (den, falls, drawn), all over den: how far the voltages of buses fall from 1, and what drains draw.
 
-    What the drains draw lets the voltage at each of them fall from 1 to just what its resistance then needs.
+    What the drains draw lets the voltage at each of them fall from 1 to just what its resistance then needs, and
+    the one that all of them share.
     """
     if not drains:
         return ONE, {}, []
     below, drops = grid.drops([drain[1] for drain in drains])
-    sides = [plus((drop[drain[1]], 0, 0), drain[2], below) for drop, drain in zip(drops, drains)]
+    drops = [{bus: drop[bus] * unit for bus in drop} for drop in drops]
+    # So much the voltage at a drain falls for a 1 that another one draws, as both draw through what they share.
+    common = times(shared, below)
+    sides = [plus(plus(common, drain[2], below), ONE, drop[drain[1]]) for drop, drain in zip(drops, drains)]
     den, pulls = sides[0], [ONE]
     if len(drains) == 2:
-        between = drops[0][drains[1][1]]
-        den = plus(product_of(sides[0], sides[1]), ONE, -between * between)
-        pulls = [plus(sides[1], ONE, -between), plus(sides[0], ONE, -between)]
+        between = plus(common, ONE, drops[0][drains[1][1]])
+        den = plus(product_of(sides[0], sides[1]), product_of(between, between), -1)
+        pulls = [plus(sides[1], between, -1), plus(sides[0], between, -1)]
     falls = {bus: ZERO for bus in drops[0]}
     for drop, pull in zip(drops, pulls):
         for bus in drop:
             falls[bus] = plus(falls[bus], pull, drop[bus])
-    return den, falls, [times(pull, below) for pull in pulls]
+    return den, falls, [times(pull, below * unit) for pull in pulls]
 
 
-def whole_flows(net, opened, fault):
-    """Return flows whose polynomials are triples of integers, without a divisor common to all of them."""
+def is_burning(net, opened, fault):
+    """Return whether a current flows into a fault at a topology."""
+    return bool(drains_of(net, opened, fault, Grid(net, opened, fault).fed, BARE[1]))
+
+
+def whole_flows(net, opened, fault, site):
+    """Return flows at a site whose polynomials are triples of integers, without a divisor common to all of them."""
+    unit, parts, shared = site
     grid = Grid(net, opened, fault)
-    drains = drains_of(net, opened, fault, grid.fed)
-    den, falls, drawn = drawn_by(grid, drains)
+    drains = drains_of(net, opened, fault, grid.fed, parts)
+    den, falls, drawn = drawn_by(grid, drains, unit, shared)
     volts = {bus: ZERO for bus in net[0]}
     for bus in grid.fed:
         volts[bus] = plus(den, falls[bus], -1) if bus in falls else den

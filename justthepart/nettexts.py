@@ -2,7 +2,7 @@
 
 from justthepart.errors import BadText
 from justthepart.nets import check_net
-from justthepart.rows import Row
+from justthepart.rows import rows_of
 
 ONCE = ("error", "breaker", "ticks")
 
@@ -90,7 +90,7 @@ def read_net(text):
     if not isinstance(text, str):
         raise BadText(0, 0)
     told = {word: [] for word in READERS}
-    rows = [Row(at + 1, line) for at, line in enumerate(text.split("\n"))]
+    rows = rows_of(text)
     for row in rows:
         if not row.is_over():
             read_row(row, told)

@@ -21,12 +21,16 @@ def is_shown(net, paper):
 
 def check_paper(net, paper):
     """Raise BadPaper for any thing that is no paper which shows a net to be selective."""
+    check_all([Checker(net, Seen(net, fault, None), failings(net)) for fault in faults_of(net)], paper)
+
+
+def check_all(checkers, paper):
+    """Raise BadPaper for any thing that is no paper with which some checkers, each of another fault, are content."""
     if not isinstance(paper, tuple):
         raise BadPaper("a paper is a tuple of rows")
     done = 0
-    for fault in faults_of(net):
-        checker = Checker(net, fault)
-        if fault[0] == "bus":
+    for checker in checkers:
+        if checker.seen.fault[0] == "bus":
             done = checker.check_rows(paper, done, None)
         else:
             done = check_line(checker, paper, done)
@@ -38,7 +42,11 @@ def check_line(checker, paper, done):
     """Check the rows of all cells of a line, behind so many rows of a paper; return how many are done then."""
     end = (0, 1)
     while True:
-        cell = stretch_from(paper, done, end)
+        if done >= len(paper) or not is_tuple(paper[done], 4):
+            raise BadPaper("a row of a stretch is lacking")
+        cell = paper[done][1]
+        if not is_stretch(cell, end):
+            raise BadPaper("no stretch from where the one ahead of it ends to somewhere behind that")
         done = checker.check_rows(paper, done, cell)
         end = cell[2]
         if end == (1, 1):
@@ -46,24 +54,22 @@ def check_line(checker, paper, done):
         done = checker.check_rows(paper, done, ("at", end))
 
 
-def stretch_from(paper, done, one):
-    """Return the stretch of the row behind so many rows of a paper; it must begin at one end."""
-    if done >= len(paper) or not is_tuple(paper[done], 4):
-        raise BadPaper("a row of a stretch is lacking")
-    cell = paper[done][1]
-    if not (is_tuple(cell, 3) and is_same(cell[:2], ("between", one))):
-        raise BadPaper("a stretch does not begin where the one ahead of it ends")
-    if not (is_same(cell[2], (1, 1)) or is_place(cell[2]) and order_of(one, cell[2]) < 0):
-        raise BadPaper("a stretch does not end behind where it begins")
-    return cell
+def is_stretch(thing, one):
+    """Return whether any thing is a stretch from one end to a place behind it, or to 1."""
+    if not (is_tuple(thing, 3) and is_same(thing[:2], ("between", one))):
+        return False
+    other = thing[2]
+    return is_same(other, (1, 1)) or is_place(other) and order_of(one, other) < 0
 
 
 def is_same(thing, wanted):
-    """Return whether any thing is what is wanted: tuples of strings, integers, which bools are not, and None."""
+    """Return whether any thing is what is wanted: tuples of strings, integers, which bools are not, bools and None."""
     if isinstance(wanted, tuple):
         return is_tuple(thing, len(wanted)) and all([is_same(one, other) for one, other in zip(thing, wanted)])
     if wanted is None:
         return thing is None
+    if isinstance(wanted, bool):
+        return isinstance(thing, bool) and thing == wanted
     if isinstance(wanted, str):
         return isinstance(thing, str) and thing == wanted
     return is_int(thing) and thing == wanted
@@ -84,106 +90,129 @@ def is_topology(thing, breakers):
     return is_ascending(thing)
 
 
-def is_standing(thing, breakers, guards):
-    """Return whether any thing is formed as a standing of a net with these breakers and so many guards."""
-    if not is_tuple(thing, 3):
+def are_ages(thing, breakers, opened):
+    """Return whether any thing is an ascending tuple of breakers that are not open, with their ages."""
+    if not (isinstance(thing, tuple) and all([is_tuple(pair, 2) and is_count(pair[1]) for pair in thing])):
         return False
-    opened, held, ages = thing
-    if not (is_topology(opened, breakers) and is_tuple(held, guards) and all([is_count(count) for count in held])):
-        return False
-    if not (isinstance(ages, tuple) and all([is_tuple(pair, 2) and is_count(pair[1]) for pair in ages])):
-        return False
-    ordered = tuple([pair[0] for pair in ages])
+    ordered = tuple([pair[0] for pair in thing])
     return is_topology(ordered, breakers) and not any([breaker in opened for breaker in ordered])
 
 
 class Checker:
-    """The judge of the rows of a paper that tell of one fault."""
+    """The judge of the rows of a paper that tell of one fault, in all cases: these tell what fails."""
 
-    def __init__(self, net, fault):
+    def __init__(self, net, seen, told):
         self.net = net
-        self.fault = fault
-        self.seen = Seen(net, fault, None)
-        self.failings = failings(net)
+        self.seen = seen
+        self.cases = told
         self.breakers = buses_of_breakers(net)
         self.shown = {}
 
+    def world(self, seen, case):
+        """Return the world of a case."""
+        return World(self.net, seen, case)
+
+    def is_standing(self, thing):
+        """Return whether any thing is formed as a standing."""
+        if not is_tuple(thing, 3):
+            return False
+        opened, held, ages = thing
+        if not (is_topology(opened, self.breakers) and are_ages(ages, self.breakers, opened)):
+            return False
+        return is_tuple(held, len(self.net[3])) and all([is_count(count) for count in held])
+
+    def are_standings(self, thing):
+        """Return whether any thing is a tuple of standings."""
+        return isinstance(thing, tuple) and all([self.is_standing(standing) for standing in thing])
+
     def check_rows(self, paper, done, cell):
         """Check the rows of a cell, None for a bus, behind so many rows of a paper; return how many are done then."""
-        rows = paper[done:done + len(self.failings)]
-        if len(rows) < len(self.failings):
+        rows = paper[done:done + len(self.cases)]
+        if len(rows) < len(self.cases):
             raise BadPaper("rows are lacking")
+        pairs = []
+        for row, case in zip(rows, self.cases):
+            if not (is_tuple(row, 4) and is_same(row[:3], (self.seen.fault, cell, case))):
+                raise BadPaper("a row of another fault, cell or case")
+            pairs.append((case, row[3]))
+        self.check_pairs(cell, pairs)
+        return done + len(rows)
+
+    def check_pairs(self, cell, pairs):
+        """Check pairs of a case and things that must be its lots, in a cell, None for a bus."""
         seen = self.seen.elsewhere(None if cell is None else sample(cell))
         still = {}
-        for row, failing in zip(rows, self.failings):
-            if not (is_tuple(row, 4) and is_same(row[:3], (self.fault, cell, failing))):
-                raise BadPaper("a row of another fault, cell or failing")
-            self.check_form(row[3])
-            self.check_still(row[3], cell, still)
-            self.check_lots(row[3], seen, failing)
-        return done + len(rows)
+        for case, lots in pairs:
+            self.check_form(lots)
+            for lot in lots:
+                self.check_still(lot, cell, still)
+            self.check_lots(lots, seen, case)
 
     def check_form(self, lots):
         """Check that a thing is formed as lots."""
-        guards = len(self.net[3])
         if not is_tuple(lots, self.net[4][3] + 1):
             raise BadPaper("not as many lots as ticks, and one more")
-        for lot in lots:
-            if not isinstance(lot, tuple):
-                raise BadPaper("a lot is a tuple of standings")
-            for standing in lot:
-                if not is_standing(standing, self.breakers, guards):
-                    raise BadPaper("a standing is not well formed")
+        if not all([self.are_standings(lot) for lot in lots]):
+            raise BadPaper("a lot that is no tuple of standings, or one that is not well formed")
 
-    def check_still(self, lots, cell, still):
-        """Check that all that guards see at the topologies of lots, but those known to be still, is so in a cell."""
+    def check_still(self, standings, cell, still):
+        """Check that all that guards see at the topologies of standings, but those known as still, is so in a cell."""
         views = self.seen.shared()
-        for lot in lots:
-            for standing in lot:
-                opened = standing[0]
-                if opened not in still:
-                    if views.view(opened).places_within(cell):
-                        raise BadPaper("a polynomial is not still")
-                    still[opened] = True
+        for standing in standings:
+            opened = standing[0]
+            if opened not in still:
+                if views.view(opened).places_within(cell):
+                    raise BadPaper("a polynomial is not still")
+                still[opened] = True
 
-    def check_lots(self, lots, seen, failing):
+    def check_lots(self, lots, seen, case):
         """Check that lots hold all runs, and that these end well."""
         sights = {standing[0]: seen.at(standing[0]) for lot in lots for standing in lot}
-        if self.shown.get(failing) == (lots, sights):
+        if self.shown.get(case) == (lots, sights):
             # As much was shown in the cell ahead, where the guards see the same.
             return
-        world = World(self.net, seen, failing)
+        world = self.world(seen, case)
         if world.start not in lots[0]:
             raise BadPaper("the beginning is not in the first lot")
         for lot, then in zip(lots, lots[1:]):
             known = {standing: True for standing in then}
             for standing in lot:
-                if not all([follower in known for follower in world.followers(standing)]):
+                if not all([follower in known for follower in world.next_ones(standing)]):
                     raise BadPaper("a follower is not in the next lot")
         if not all([world.is_right(standing) for standing in lots[-1]]):
             raise BadPaper("a standing of the last lot is no right end")
-        self.shown[failing] = (lots, sights)
+        self.shown[case] = (lots, sights)
+
+    def is_wrong_run(self, run, seen, case):
+        """Return whether any thing is a run of a case that ends wrong."""
+        if not (is_tuple(run, self.net[4][3] + 1) and self.are_standings(run)):
+            return False
+        world = self.world(seen, case)
+        if run[0] != world.start:
+            return False
+        for standing, then in zip(run, run[1:]):
+            if then not in world.next_ones(standing):
+                return False
+        return not world.is_right(run[-1])
+
+    def is_no(self, thing):
+        """Return whether any thing is a no that tells of this fault, and is right."""
+        _, _, place, case, run = thing
+        if not (place is None if self.seen.fault[0] == "bus" else is_place(place)):
+            return False
+        return is_one_of(case, self.cases) and self.is_wrong_run(run, self.seen.elsewhere(place), case)
 
 
 def goes_astray(net, thing):
     """Return whether any thing is a no, whose run is one of its fault, place and failing and ends wrong."""
-    if not (is_tuple(thing, 5) and is_same(thing[0], "astray")):
+    if not is_formed_no(net, thing):
         return False
-    _, fault, place, failing, run = thing
-    if not (is_one_of(fault, faults_of(net)) and is_one_of(failing, failings(net))):
-        return False
-    if not (place is None if fault[0] == "bus" else is_place(place)):
-        return False
-    breakers = buses_of_breakers(net)
-    if not is_tuple(run, net[4][3] + 1):
-        return False
-    if not all([is_standing(standing, breakers, len(net[3])) for standing in run]):
-        return False
-    world = World(net, Seen(net, fault, place), failing)
-    if run[0] != world.start:
-        return False
-    follow = [then in world.followers(standing) for standing, then in zip(run, run[1:])]
-    return all(follow) and not world.is_right(run[-1])
+    return Checker(net, Seen(net, thing[1], None), failings(net)).is_no(thing)
+
+
+def is_formed_no(net, thing):
+    """Return whether any thing is formed as a no, as far as its fault."""
+    return is_tuple(thing, 5) and is_same(thing[0], "astray") and is_one_of(thing[1], faults_of(net))
 
 
 def is_one_of(thing, many):
@@ -193,6 +222,11 @@ def is_one_of(thing, many):
 
 def verdict_holds(net, thing):
     """Return whether any thing is a verdict on a net that is right."""
-    if is_tuple(thing, 2) and is_same(thing[0], "selective"):
+    if is_formed_yes(thing):
         return is_shown(net, thing[1])
     return goes_astray(net, thing)
+
+
+def is_formed_yes(thing):
+    """Return whether any thing is a yes with some paper."""
+    return is_tuple(thing, 2) and is_same(thing[0], "selective")

@@ -7,6 +7,11 @@ from justthepart.polys import fraction
 MOST_FIGURES = 4
 
 
+def rows_of(text):
+    """Return the list of the lines of a text, to be read."""
+    return [Row(at + 1, line) for at, line in enumerate(text.split("\n"))]
+
+
 class Row:
     """A line of a text, of which so many signs are done."""
 
@@ -60,6 +65,12 @@ class Row:
         self.done += len(word)
         self.finish()
         return word
+
+    def refuse_words(self, words):
+        """Refuse the word that stands next if it is one of some words."""
+        self.begin()
+        if self.ahead(SIGNS) in words:
+            self.refuse(self.done)
 
     def bare_name(self):
         """Read a name, whatever stands right behind it."""

@@ -20,7 +20,13 @@ FILL = 2
 
 def judge(net):
     """Return ("selective", paper), or ("astray", fault, place, failing, run)."""
-    searches = [Search(net, fault) for fault in faults_of(net)]
+    return judged([Search(net, Seen(net, fault, None), failings(net)) for fault in faults_of(net)])
+
+
+def judged(searches):
+    """Return the verdict that some searches, each of another fault, come to."""
+    for search in searches:
+        search.begin()
     # Most nets that go astray do so at any place, and by plain runs: what takes longest comes last.
     for step in (GLANCE, LOOK, FILL):
         for search in sorted(searches, key=lambda one: one.width):
@@ -31,86 +37,106 @@ def judge(net):
 
 
 class Search:
-    """The search through all runs of one fault."""
+    """The search through all runs of one fault, in all cases: these tell what fails."""
 
-    def __init__(self, net, fault):
+    def __init__(self, net, seen, told):
         self.net = net
-        self.fault = fault
-        self.whole = WHOLE if fault[0] == "line" else None
-        self.seen = Seen(net, fault, self.place_in(self.whole))
-        self.width = self.width_at(self.seen)
-        self.failings = failings(net)
-        self.kept = [[] for _ in self.failings]
+        self.seen = seen
+        self.cases = told
+        self.whole = WHOLE if seen.fault[0] == "line" else None
+        self.width = 0
+        self.kept = [[] for _ in told]
         self.rows = []
         self.astray = None
+
+    def world(self, seen, case):
+        """Return the world of a case."""
+        return World(self.net, seen, case)
+
+    def begin(self):
+        """Take a place of the whole line first."""
+        self.seen = self.seen_in(self.whole)
+        self.width = width_at(self.seen)
+
+    def seen_in(self, cell):
+        """Return what the guards see at a place in a cell, None in a bus."""
+        return self.seen.elsewhere(None if cell is None else sample(cell))
 
     def take(self, step):
         """Take one of the steps of judging."""
         if step == GLANCE:
-            self.glance(self.seen)
+            self.tell(self.seen, self.glance(self.seen))
         elif step == LOOK:
-            self.look(self.seen)
+            self.tell(self.seen, self.look(self.seen)[1])
         else:
             self.fill()
 
-    def place_in(self, cell):
-        """Return a place in a cell, None in a bus."""
-        return None if cell is None else sample(cell)
-
-    def width_at(self, seen):
-        """Return how many guards see perhaps while nothing is open."""
-        return seen.at(()).count(PERHAPS)
+    def tell(self, seen, wrong):
+        """Tell that a run of a case goes wrong at a place, if one does."""
+        if wrong is not None:
+            self.astray = ("astray", seen.fault, seen.place, *wrong)
 
     def glance(self, seen):
-        """Look at plain runs alone, if all of them may be too many."""
-        if self.width_at(seen) <= FEW:
-            return
-        for failing in self.failings:
-            wrong = plain_wrong_run(World(self.net, seen, failing))
-            if wrong is not None:
-                self.astray = ("astray", self.fault, seen.place, failing, wrong)
-                return
+        """Look at plain runs alone, if all may be too many; return (case, run) for one that goes wrong, or None."""
+        if width_at(seen) <= FEW:
+            return None
+        for case in self.cases:
+            run = plain_wrong_run(self.world(seen, case))
+            if run is not None:
+                return (case, run)
+        return None
 
     def look(self, seen):
-        """Return (sights, lots) for each failing at a place, [] if a run goes astray there."""
+        """Return (found, None), found being (sights, lots) for each case at a place, or ([], (case, run))."""
         found = []
-        for at, failing in enumerate(self.failings):
+        for at, case in enumerate(self.cases):
             same = alike(self.kept[at], seen)
             if same is None:
-                lots, wrong = explored(World(self.net, seen, failing))
-                if wrong is not None:
-                    self.astray = ("astray", self.fault, seen.place, failing, wrong)
-                    return []
+                lots, run = explored(self.world(seen, case))
+                if run is not None:
+                    return [], (case, run)
                 same = (sights_of(lots, seen), tuple_of_lots(lots))
                 self.kept[at].append(same)
             found.append(same)
-        return found
+        return found, None
+
+    def looked(self, seen):
+        """Return what look does, plain runs being looked at first."""
+        wrong = self.glance(seen)
+        return self.look(seen) if wrong is None else ([], wrong)
 
     def fill(self):
         """Fill in the rows of a paper on all cells; up to where a run goes astray, if one does."""
         work = [(self.whole, {})]
         while work:
             cell, split = work.pop()
-            seen = self.seen.elsewhere(self.place_in(cell))
-            self.glance(seen)
-            found = self.look(seen) if self.astray is None else []
-            if self.astray is not None:
+            seen = self.seen_in(cell)
+            found, wrong = self.looked(seen)
+            self.tell(seen, wrong)
+            if wrong is not None:
                 return
             topologies = {opened: True for same in found for opened in same[0] if opened not in split}
-            places = self.places_within(cell, topologies)
-            if places:
-                _, one, other = cell
+            parts = self.parted(cell, topologies)
+            if parts:
                 split = {opened: True for opened in list(split) + list(topologies)}
-                work.extend([(part, split) for part in reversed(cells_between(one, places, other))])
+                work.extend([(part, split) for part in reversed(parts)])
             else:
-                for failing, same in zip(self.failings, found):
-                    self.rows.append((self.fault, cell, failing, same[1]))
+                for case, same in zip(self.cases, found):
+                    self.rows.append((seen.fault, cell, case, same[1]))
 
-    def places_within(self, cell, topologies):
-        """Return the ascending list of the places within a cell where what guards see at topologies may change."""
+    def parted(self, cell, topologies):
+        """Return the cells into which a cell falls where what guards see at topologies changes, [] if it does not."""
         views = self.seen.shared()
         found = {place: True for opened in topologies for place in views.view(opened).places_within(cell)}
-        return ascending(list(found), FIRST_BITS)
+        if not found:
+            return []
+        _, one, other = cell
+        return cells_between(one, ascending(list(found), FIRST_BITS), other)
+
+
+def width_at(seen):
+    """Return how many guards see perhaps while nothing is open."""
+    return seen.at(()).count(PERHAPS)
 
 
 def alike(kept, seen):
@@ -151,7 +177,7 @@ def explored(world):
                 return None, wrong
         lots.append(lot)
         for standing in lot:
-            if not world.is_allowed(standing[0]):
+            if world.is_lost(standing):
                 return None, prolonged(world, run_to(lots, standing), False)
         if len(lot) == len(last) and all(standing in last for standing in lot):
             # Nothing new comes from here on.
@@ -166,7 +192,7 @@ def next_lot(world, lot):
     """Return the lot behind a lot."""
     out = {}
     for standing in lot:
-        for follower in world.followers(standing):
+        for follower in world.next_ones(standing):
             out.setdefault(follower, standing)
     return out
 
@@ -184,7 +210,7 @@ def prolonged(world, run, is_eager):
     """Return a run, gone on with until all ticks are over."""
     run = list(run)
     while len(run) <= world.ticks:
-        run.append(world.follower(run[-1], is_eager))
+        run.append(world.plain_next(run[-1], is_eager))
     return tuple(run)
 
 

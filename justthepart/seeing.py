@@ -1,6 +1,6 @@
 """What guards see of a fault at one place."""
 
-from justthepart.currents import flows
+from justthepart.currents import BARE, flows
 from justthepart.views import Views
 
 
@@ -17,7 +17,7 @@ class Seen:
     def shared(self):
         """Return the views of the fault, which all Seens of it at other places may share."""
         if self.views is None:
-            self.views = Views(self.net, self.fault)
+            self.views = Views(self.net, self.fault, BARE)
         return self.views
 
     def elsewhere(self, place):

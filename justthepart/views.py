@@ -1,4 +1,4 @@
-"""What guards see of currents, at all places of a faulty line at once.
+"""What guards see of currents, at all places of a faulty line at once, or with all resistances of a fault.
 
 A guard compares numbers: what it sees at a place follows from the signs of some polynomials there, its marks.
 Between neighbouring places at which a mark is 0 all places look the same to all guards.
@@ -116,11 +116,12 @@ class View:
 
 
 class Views:
-    """What all guards see of one fault, by topology."""
+    """What all guards see of one fault at a site, by topology."""
 
-    def __init__(self, net, fault):
+    def __init__(self, net, fault, site):
         self.net = net
         self.fault = fault
+        self.site = site
         self.looks = [Look(net, guard[1]) for guard in net[3]]
         self.terms = balance_of(net, fault[1])
         self.views = {}
@@ -128,7 +129,7 @@ class Views:
     def view(self, opened):
         """Return the view of a topology."""
         if opened not in self.views:
-            whole = whole_flows(self.net, opened, self.fault)
+            whole = whole_flows(self.net, opened, self.fault, self.site)
             burns = sum_of_currents(whole[2], self.terms) != ZERO
             self.views[opened] = View(self.looks, whole, burns)
         return self.views[opened]

@@ -23,11 +23,17 @@ def breakers_at_bus(net, bus):
 
 def may_open(net, fault, failing):
     """Return a list of the breakers that may be open at last."""
+    return open_at_last(net, fault, let_down(net, fault, failing))
+
+
+def open_at_last(net, fault, down):
+    """Return a list of the breakers that may be open at last, if others must stand in for some breakers."""
     kind, name = fault
     out = [(name, 0), (name, 1)] if kind == "line" else breakers_at_bus(net, name)
-    for breaker in let_down(net, fault, failing):
+    buses = buses_of_breakers(net)
+    for breaker in down:
         # These are the breakers at its line, too, if it is a line's.
-        out.extend(breakers_at_bus(net, buses_of_breakers(net)[breaker]))
+        out.extend(breakers_at_bus(net, buses[breaker]))
     return out
 
 
@@ -43,7 +49,7 @@ def let_down(net, fault, failing):
 
 def followers(net, seen, standing, failing):
     """Return the ascending list of all standings that may follow one."""
-    return World(net, seen, failing).followers(standing)
+    return World(net, seen, failing).next_ones(standing)
 
 
 def is_right(net, seen, standing, failing):
@@ -51,26 +57,37 @@ def is_right(net, seen, standing, failing):
     return World(net, seen, failing).is_right(standing)
 
 
-class World:
-    """All that may happen in a net with a fault at one place and something failing."""
+def stuck_breaker(failing):
+    """Return the breaker that fails, None without one."""
+    return failing[1] if failing is not None and failing[0] == "breaker" else None
+
+
+def moves_of(ages, least, most, stuck):
+    """Return a list of all (opening, ages) that the breakers ordered ahead may come to, the fewest opening first."""
+    out = [((), [])]
+    for breaker, age in ages:
+        older = age + 1
+        if breaker == stuck:
+            out = [(opening, kept + [(breaker, min(older, most))]) for opening, kept in out]
+            continue
+        stay = [(opening, kept + [(breaker, older)]) for opening, kept in out if older < most]
+        leave = [((*opening, breaker), kept) for opening, kept in out if older >= least]
+        out = stay + leave
+    return out
+
+
+class Eyes:
+    """What the guards see, one of which may fail."""
 
     def __init__(self, net, seen, failing):
         self.seen = seen
-        self.guards = net[3]
         self.backups = [(at, guard[1][1]) for at, guard in enumerate(net[3]) if guard[1][0] == "behind"]
-        _, self.least, self.most, self.ticks = net[4]
-        self.start = beginning(net)
-        self.blind = self.stuck = None
+        self.blind = None
         if failing is not None and failing[0] == "guard":
             self.blind = [guard[0] for guard in net[3]].index(failing[1])
-        elif failing is not None:
-            self.stuck = failing[1]
-        self.free = {breaker: True for breaker in may_open(net, seen.fault, failing)}
-        self.known = {}
 
-    def sights(self, standing):
+    def sights(self, opened, ages):
         """Return the list of what the guards see, by the topology and what was ordered ahead."""
-        opened, _, ages = standing
         sights = list(self.seen.at(opened))
         ordered = [breaker for breaker, _ in ages]
         for at, breaker in self.backups:
@@ -80,25 +97,49 @@ class World:
             sights[self.blind] = NO
         return sights
 
-    def followers(self, standing):
+
+class World:
+    """All that may happen in a net with a fault at one place and something failing."""
+
+    def __init__(self, net, seen, failing):
+        self.seen = seen
+        self.guards = net[3]
+        self.eyes = Eyes(net, seen, failing)
+        _, self.least, self.most, self.ticks = net[4]
+        self.start = beginning(net)
+        self.stuck = stuck_breaker(failing)
+        self.free = {breaker: True for breaker in may_open(net, seen.fault, failing)}
+        self.known = {}
+
+    def sights(self, standing):
+        """Return the list of what the guards see, by the topology and what was ordered ahead."""
+        return self.eyes.sights(standing[0], standing[2])
+
+    def next_ones(self, standing):
         """Return the ascending list of all standings that may follow one."""
         if standing not in self.known:
             self.known[standing] = sorted(self.after(standing, self.sights(standing), self.moves(standing)))
         return self.known[standing]
 
-    def follower(self, standing, is_eager):
+    def plain_next(self, standing, is_eager):
         """Return a standing that may follow one: guards and breakers that may act all do, or none of them."""
         choice = SURELY if is_eager else NO
         sights = [choice if sight == PERHAPS else sight for sight in self.sights(standing)]
         moves = self.moves(standing)
         return self.after(standing, sights, moves[-1:] if is_eager else moves[:1])[0]
 
+    def moves(self, standing):
+        """Return a list of all (opening, ages) that the breakers ordered ahead may come to."""
+        return moves_of(standing[2], self.least, self.most, self.stuck)
+
     def after(self, standing, sights, moves):
         """Return a list of the standings that follow one by what guards see and what breakers may do."""
+        opened = standing[0]
+        moved = [(tuple(sorted((*opened, *opening))), kept) for opening, kept in moves]
         out = []
         for held in self.counts(standing[1], sights):
-            fresh = self.orders(standing, held)
-            out.extend([(opened, held, tuple(sorted(kept + fresh))) for opened, kept in moves])
+            fresh = self.fresh_orders(standing, held)
+            out.extend([(then, held, tuple(sorted(kept + fresh))) for then, kept in moved])
         return out
 
     def counts(self, held, sights):
@@ -110,7 +151,7 @@ class World:
                 out = out + [[*row[:at], 0, *row[at + 1:]] for row in out]
         return [tuple(row) for row in out]
 
-    def orders(self, standing, held):
+    def fresh_orders(self, standing, held):
         """Return a list of the breakers, with their age, that guards order which have held so long."""
         opened, _, ages = standing
         fresh = {}
@@ -121,23 +162,13 @@ class World:
         ordered = [breaker for breaker, _ in ages]
         return [(breaker, 0) for breaker in fresh if breaker not in opened and breaker not in ordered]
 
-    def moves(self, standing):
-        """Return a list of all (opened, ages) that the breakers ordered ahead may come to, the fewest open first."""
-        opened, _, ages = standing
-        out = [((), [])]
-        for breaker, age in ages:
-            older = age + 1
-            if breaker == self.stuck:
-                out = [(gone, kept + [(breaker, min(older, self.most))]) for gone, kept in out]
-                continue
-            stay = [(gone, kept + [(breaker, older)]) for gone, kept in out if older < self.most]
-            leave = [((*gone, breaker), kept) for gone, kept in out if older >= self.least]
-            out = stay + leave
-        return [(tuple(sorted((*opened, *gone))), kept) for gone, kept in out]
-
     def is_allowed(self, opened):
         """Return whether all breakers that are open at a topology may be open at last."""
         return all([breaker in self.free for breaker in opened])
+
+    def is_lost(self, standing):
+        """Return whether no right end can come from a standing any more, as far as this is seen at once."""
+        return not self.is_allowed(standing[0])
 
     def is_quiet(self, standing):
         """Return whether no breaker but a failing one is ordered and shut, and no guard sees anything."""

@@ -3,7 +3,7 @@
 from fractions import Fraction
 
 import apart
-from samples import breakers_of
+from samples import breakers_of, faults_of
 
 TINY = (1, 1000)
 
@@ -76,6 +76,30 @@ def wild_net(draw, guards=6):
     told = tuple((f"q{at}", look(draw, net), draw.randint(0, 4), some_of(draw, breakers_of(net), 3))
                  for at in range(draw.randint(0, guards)))
     return (*net, told, rules(draw, draw.randint(1, 8)))
+
+
+def hazy_net(draw, guards=5):
+    """Return a net many of whose guards see perhaps of some of its faults."""
+    buses = draw.randint(1, 2)
+    net = grid(draw, buses, 0 if buses == 1 else draw.randint(1, 2), draw.randint(1, 2))
+    error = draw.choice((Fraction(1, 4), Fraction(1, 2), Fraction(9, 10)))
+    told = []
+    for at in range(draw.randint(1, guards)):
+        fault = draw.choice(faults_of(net))
+        volts, into, whole = apart.currents(net, (), fault, Fraction(draw.randint(1, 9), 10))
+        breaker = draw.choice(breakers_of(net))
+        kind = draw.choice(("over", "over", "reach", "difference", "behind"))
+        if kind == "over":
+            seen = (kind, breaker, near(abs(into[breaker]), draw), draw.random() < 0.3)
+        elif kind == "reach":
+            seen = (kind, breaker, near(volts[apart.bus_of(net, breaker)] / into[breaker] if into[breaker] > 0 else 1, draw))
+        elif kind == "difference":
+            seen = (kind, fault[1], near(whole, draw))
+        else:
+            seen = (kind, breaker)
+        told.append((f"q{at}", seen, draw.randint(0, 2), some_of(draw, breakers_of(net), 2)))
+    _, least, most, ticks = rules(draw, draw.randint(1, 8))
+    return (*net, tuple(told), ((error.numerator, error.denominator), least, most, ticks))
 
 
 def net_of_all_kinds(draw):

@@ -107,6 +107,39 @@ class Language(unittest.TestCase):
         for path, text in files():
             self.assertTrue(all(sign == "\n" or " " <= sign <= "~" for sign in text), path)
 
+    def test_l15_no_name_has_two_meanings(self):
+        for path, tree in nodes(ast.Module):
+            taken = {alias.name for node in tree.body if isinstance(node, ast.ImportFrom) for alias in node.names}
+            taken |= {node.name for node in tree.body if isinstance(node, (ast.ClassDef, ast.FunctionDef))}
+            for node in ast.walk(tree):
+                if isinstance(node, ast.arg):
+                    self.assertNotIn(node.arg, taken, (path, node.lineno))
+                if isinstance(node, ast.Name) and isinstance(node.ctx, ast.Store):
+                    self.assertNotIn(node.id, taken, (path, node.lineno))
+
+    def test_l16_imports_that_are_used(self):
+        for path, tree in nodes(ast.Module):
+            used = {node.id for node in ast.walk(tree) if isinstance(node, ast.Name)}
+            for node in tree.body:
+                if isinstance(node, ast.ImportFrom):
+                    self.assertLessEqual({alias.name for alias in node.names}, used, path)
+
+    def test_l18_methods_and_attributes(self):
+        methods, stored = set(), set()
+        for _, kind in nodes(ast.ClassDef):
+            own = [node.name for node in kind.body if isinstance(node, ast.FunctionDef)]
+            self.assertEqual(len(own), len(set(own)), kind.name)
+            methods |= set(own)
+            stored |= {node.attr for node in ast.walk(kind) if isinstance(node, ast.Attribute) and isinstance(node.ctx, ast.Store)}
+        self.assertEqual(methods & stored, set())
+
+    def test_l20_l24_is_and_sets(self):
+        self.assertEqual(nodes((ast.Set, ast.SetComp)), [])
+        for path, node in nodes(ast.Compare):
+            for sign, other in zip(node.ops, node.comparators):
+                if isinstance(sign, (ast.Is, ast.IsNot)):
+                    self.assertIsInstance(other, ast.Constant, (path, node.lineno))
+
     def test_l27_no_warnings(self):
         for path, text in files():
             with warnings.catch_warnings():
