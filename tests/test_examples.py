@@ -54,6 +54,44 @@ EXAMPLES = {
     >>> least_delays(net)[1][0], [guard[0] for guard in without_line(net, "ab")[3]], [pair[0] for pair in judge_all(net)]
     ('selective', ['e1', 'e2'], [None, 'ab'])
 """),
+    "records": ("record steps_of opened_in dark_at", r"""
+    >>> run = (beginning(net), followers(net, seen, beginning(net), None)[0])
+    >>> record(net, fault, (1, 2), None, run), opened_in(run), dark_at(net, (("ab", 0),)), steps_of(net, fault, (1, 2), None, record(net, fault, (1, 2), None, run).split("\n")[2:]) == [run]
+    ('fault line ab at 1/2\nnothing fails\nsees d1 yes d2 yes z2 yes; orders ab.0 ab.1; opens none', [], ['b'], True)
+"""),
+    "rooms": ("check_room is_room as_room", """
+    >>> is_room(net, ((), (), (), (), (), 0)), is_room(net, ((), (("t", ("not", "zz")),), (), (), (), 0)), len(as_room(net)[1]), check_room(net, as_room(net))
+    (True, False, 7, None)
+"""),
+    "roomtexts": ("read_room room_text", r"""
+    >>> room = read_room(net, "let t timer d1 1 0  # slower\norder ab.0 t\ngone 2")
+    >>> room, read_room(net, room_text(net, room)) == room
+    (((), (('t', ('timer', 'd1', 1, 0)),), (), ((('ab', 0), 't'),), (), 2), True)
+"""),
+    "roomworld": ("cases room_beginning RoomWorld room_may_open", """
+    >>> world = RoomWorld(net, room, seen, (None, True))
+    >>> start = room_beginning(room)
+    >>> start, world.followers(start), world.is_right(start), len(cases(net, room)), sorted(room_may_open(net, room, ("bus", "b"), None))
+    (((), ((0, 0),), (), (), 0), [((), ((1, 0),), (), (), 0)], False, 20, [('ab', 0), ('ab', 1)])
+"""),
+    "roomsearching": ("judge_room", """
+    >>> judge_room(net, as_room(net))[0], judge_room(net, room)[0]
+    ('selective', 'astray')
+"""),
+    "roompapers": ("check_room_paper is_room_shown room_goes_astray room_verdict_holds", """
+    >>> room_verdict_holds(net, room, judge_room(net, room)), room_goes_astray(net, room, judge_room(net, room)), is_room_shown(net, room, ())
+    (True, True, False)
+"""),
+    "times": ("latest_end least_ticks with_ticks", """
+    >>> latest_end(net), least_ticks(net), with_ticks(net, 3)[4]
+    (6, 7, ((1, 10), 1, 2, 3))
+"""),
+    "arcs": ("is_arc arc_flows ArcSeen judge_arc arc_holds safe_up_to", """
+    >>> arc = (("bus", "a"), None, 1000)
+    >>> verdicts = judge_arc(net, arc)
+    >>> is_arc(net, arc), arc_holds(net, arc, verdicts), safe_up_to(verdicts)[1], safe_up_to(judge_arc(net, (("bus", "a"), None, 10))), ArcSeen(net, arc, (1, 2)).at(())[3]
+    (True, True, (9967, 11000), None, 2)
+"""),
 }
 
 
@@ -72,6 +110,14 @@ class Examples(unittest.TestCase):
                 told = doctest.DocTestRunner(verbose=False).run(test, clear_globs=False)
                 self.assertEqual((told.failed, told.attempted), (0, many))
                 known.update(test.globs)
+
+    def test_methods_stand_in_their_classes(self):
+        # Each method that the interface lists is defined in the class itself.
+        for file, kind, methods in (("seeing", "Seen", "at flows_at"), ("arcs", "ArcSeen", "at flows_at"),
+                                    ("roomworld", "RoomWorld", "followers is_quiet is_right")):
+            told = vars(getattr(importlib.import_module("justthepart." + file), kind))
+            for method in methods.split():
+                self.assertIn(method, told)
 
 
 if __name__ == "__main__":
