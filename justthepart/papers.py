@@ -99,12 +99,12 @@ def are_ages(thing, breakers, opened):
 
 
 class Checker:
-    """The judge of the rows of a paper that tell of one fault, in all cases: these tell what fails."""
+    """The judge of what papers tell of one fault, in all cases: of what fails, as far as there is no room."""
 
-    def __init__(self, net, seen, told):
+    def __init__(self, net, seen, all_cases):
         self.net = net
         self.seen = seen
-        self.cases = told
+        self.cases = all_cases
         self.breakers = buses_of_breakers(net)
         self.shown = {}
 

@@ -58,13 +58,12 @@ def grouped(pairs, places):
     return out
 
 
-def timer_behind(what, cell, is_told):
-    """Return what a timer keeps behind a tick on which it is told 1, or not."""
+def timer_cells(what, cell):
+    """Return what a timer keeps behind a tick on which it is told 1, and behind one on which it is not."""
     _, _, on, off = what
     held, left = cell
-    if is_told and held >= on:
-        return (on + 1, off)
-    return (held + 1 if is_told else 0, max(left - 1, 0))
+    less = max(left - 1, 0)
+    return ((on + 1, off) if held >= on else (held + 1, less)), (0, less)
 
 
 class Relays:
@@ -84,27 +83,15 @@ class Relays:
         self.senders = [senders.get(channel[0]) for channel in channels]
         self.orders = grouped(orders, places)
         self.shuts = grouped(shuts, places)
-        self.kept = self.kept_places()
         self.asked = self.asked_places()
 
-    def kept_places(self):
-        """Return the places of all that is kept from one tick to the next."""
-        out = [place for place in self.senders if place is not None]
-        for at, what in enumerate(self.lets):
-            if what[0] == "timer":
-                # It keeps for how long it was told 1.
-                out.append(what[1])
-            elif what[0] == "latch":
-                out.append(self.first + at)
-        return out
-
     def asked_places(self):
-        """Return a dict of the places that something hangs on."""
-        out = {place: True for place in self.kept}
+        """Return a dict of the places that something hangs on: all that is sent, ordered, shut or kept."""
+        out = {place: True for place in self.senders if place is not None}
         for places in list(self.orders.values()) + list(self.shuts.values()):
             out.update({place: True for place in places})
         for at, what in reversed(list(enumerate(self.lets))):
-            if self.first + at in out:
+            if what[0] in ("timer", "latch") or self.first + at in out:
                 out.update({place: True for place in places_asked(what)})
         return out
 
@@ -138,13 +125,34 @@ class Relays:
             at = free[0]
             ones = [self.outcomes(standing, [*options[:at], (bit,), *options[at + 1:]]) for bit in (0, 1)]
             return list({outcome: True for one in ones for outcome in one})
+        _, cells, pasts, _, _ = standing
         full, told = masks_of(options)
-        for what, cell in zip(self.lets, standing[1]):
+        for what, cell in zip(self.lets, cells):
             told.append(self.told_by(what, cell, told, standing[0], full))
+        rows = self.rows_of(cells, told)
+        sent = [0 if place is None else told[place] for place in self.senders]
         ordered, shut = self.moved(standing, told, full)
-        masks = [told[place] for place in self.kept] + list(ordered.values()) + list(shut.values())
-        # Choices that agree in all of these come to the same: one of them stands for all.
-        return [self.outcome(standing, told, ordered, shut, part & -part) for part in parted(full, masks)]
+        masks = [row[0] for row in rows] + sent + list(ordered.values()) + list(shut.values())
+        out = []
+        for part in parted(full, masks):
+            # Choices that agree in all of these come to the same: one of them stands for all.
+            bit = part & -part
+            kept = tuple([one if mask & bit else other for mask, one, other in rows])
+            known = tuple([(1 if mask & bit else 0, *past[:-1]) for mask, past in zip(sent, pasts)])
+            out.append((kept, known, marked(ordered, bit), marked(shut, bit)))
+        return out
+
+    def rows_of(self, cells, told):
+        """Return for each let (mask, one, other): what it keeps behind a tick where the mask is 1, and elsewhere."""
+        out = []
+        for at, cell in enumerate(cells):
+            what = self.lets[at]
+            if what[0] == "timer":
+                one, other = timer_cells(what, cell)
+                out.append((told[what[1]], one, other))
+            else:
+                out.append((told[self.first + at] if what[0] == "latch" else 0, 1, 0))
+        return out
 
     def moved(self, standing, told, full):
         """Return (ordered, shut): dicts of the breakers that may be, into masks."""
@@ -160,21 +168,6 @@ class Relays:
                 against = any_of(told, self.orders.get(breaker, []))
                 shut[breaker] = any_of(told, self.shuts[breaker]) & (full ^ against)
         return ordered, shut
-
-    def outcome(self, standing, told, ordered, shut, bit):
-        """Return the outcome of the choice that a bit stands for."""
-        _, cells, pasts, _, _ = standing
-        then = tuple([self.cell_behind(at, cell, told, bit) for at, cell in enumerate(cells)])
-        sent = [1 if place is not None and told[place] & bit else 0 for place in self.senders]
-        pasts = tuple([(now, *past[:-1]) for now, past in zip(sent, pasts)])
-        return then, pasts, marked(ordered, bit), marked(shut, bit)
-
-    def cell_behind(self, at, cell, told, bit):
-        """Return what a let keeps behind a tick, in the choice that a bit stands for."""
-        what = self.lets[at]
-        if what[0] == "timer":
-            return timer_behind(what, cell, bool(told[what[1]] & bit))
-        return 1 if what[0] == "latch" and told[self.first + at] & bit else 0
 
 
 def placed(what, places, heard):
@@ -192,7 +185,7 @@ def placed(what, places, heard):
 
 
 def places_asked(what):
-    """Return the places that a let asks; what a timer asks is kept in any case."""
+    """Return the places that a let asks."""
     kind, *more = what
     if kind in ("and", "or"):
         return more[0]

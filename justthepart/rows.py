@@ -7,11 +7,6 @@ from justthepart.polys import fraction
 MOST_FIGURES = 4
 
 
-def rows_of(text):
-    """Return the list of the lines of a text, to be read."""
-    return [Row(at + 1, line) for at, line in enumerate(text.split("\n"))]
-
-
 class Row:
     """A line of a text, of which so many signs are done."""
 
@@ -130,3 +125,8 @@ class Row:
             self.done += 2
         self.finish()
         return (name, int(behind[1])) if has_end else (name, 0)
+
+
+def rows_of(text):
+    """Return the list of the lines of a text, to be read."""
+    return [Row(at + 1, line) for at, line in enumerate(text.split("\n"))]

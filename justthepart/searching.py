@@ -37,15 +37,15 @@ def judged(searches):
 
 
 class Search:
-    """The search through all runs of one fault, in all cases: these tell what fails."""
+    """The search through all runs of one fault, in all cases: of what fails, as far as there is no room."""
 
-    def __init__(self, net, seen, told):
+    def __init__(self, net, seen, all_cases):
         self.net = net
         self.seen = seen
-        self.cases = told
+        self.cases = all_cases
         self.whole = WHOLE if seen.fault[0] == "line" else None
         self.width = 0
-        self.kept = [[] for _ in told]
+        self.kept = [[] for _ in all_cases]
         self.rows = []
         self.astray = None
 

@@ -402,6 +402,11 @@ class Holding(Case):
                 for other in (pairs[1:], pairs[:-1], pairs[::-1], pairs + pairs[-1:], (*pairs[1:], pairs[0]), list(pairs),
                               (pairs[0], pairs[2], pairs[1], *pairs[3:]), tuple((failing,) for failing, _ in pairs), dict(pairs)):
                     self.assert_holds(changed(verdicts, (at, 1, 1), other), False)
+        last = verdicts[-1][1]
+        for more in ((("at", (1, 1)),), (("at", (1, 1)), ("between", (1, 1), (1, 1))), (("between", (1, 1), (1, 1)),)):
+            self.assert_holds((*verdicts, *[(cell, last) for cell in more]), False)
+        for more in ((("at", (0, 1)),), (("between", (0, 1), (0, 1)), ("at", (0, 1)))):
+            self.assert_holds((*[(cell, verdicts[0][1]) for cell in more], *verdicts), False)
         self.assert_holds(verdicts[::-1], False)
         self.assert_holds(verdicts + verdicts, False)
         self.assert_holds((), False)
