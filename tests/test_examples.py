@@ -1,7 +1,11 @@
-"""The examples of the interface, word for word, in its order: later ones use names of those ahead."""
+"""The examples of the interface, word for word, in its order: later ones use names of those ahead; and the README's."""
 
+import contextlib
 import doctest
 import importlib
+import io
+import os
+import re
 import unittest
 
 EXAMPLES = {
@@ -110,6 +114,22 @@ class Examples(unittest.TestCase):
                 told = doctest.DocTestRunner(verbose=False).run(test, clear_globs=False)
                 self.assertEqual((told.failed, told.attempted), (0, many))
                 known.update(test.globs)
+
+    def test_readme(self):
+        # The README's pieces of code run one after the other, and tell what their remarks say.
+        readme = os.path.join(os.path.dirname(os.path.dirname(os.path.abspath(__file__))), "README.md")
+        with open(readme, encoding="utf-8") as file:
+            pieces = re.findall(r"```python\n(.*?)```", file.read(), re.S)
+        known = {}
+        with contextlib.redirect_stdout(io.StringIO()):
+            for piece in pieces:
+                exec(compile(piece, "README.md", "exec"), known)
+        net, room = known["net"], known["room"]
+        self.assertEqual([known["judge_room"](net, one)[0] for one in (room, known["as_room"](net))], ["astray", "selective"])
+        self.assertEqual((known["latest_end"](net), known["least_ticks"](net)), (6, 7))
+        self.assertEqual(known["safe_up_to"](known["verdicts"]), ("between", (9967, 11000), (1, 1)))
+        self.assertEqual(known["seen"].at(()), (2, 2, 2, 0, 0, 0, 2))
+        self.assertIn("sees d1 yes d2 yes z2 yes; orders ab.0 ab.1; opens none", known["text"])
 
     def test_methods_stand_in_their_classes(self):
         # Each method that the interface lists is defined in the class itself.
